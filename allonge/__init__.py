@@ -1,0 +1,1 @@
+"""Allonge: bills of exchange, and who pays when they come back."""
