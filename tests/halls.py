@@ -75,7 +75,8 @@ def answer(question, *parts):
 def bill_told(hall, bill):
     asked = [hall.paper, hall.state, hall.holder, hall.copy_of, hall.in_blank, hall.row]
     of_bill = [answer(question, bill) for question in asked]
-    return of_bill + [answer(question, hall, bill) for question in (recourse.open_places, recourse.bearer)]
+    of_recourse = [recourse.open_places, recourse.runs, recourse.bearer]
+    return of_bill + [answer(question, hall, bill) for question in of_recourse]
 
 
 def told(hall):

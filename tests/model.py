@@ -175,6 +175,28 @@ class Model:
                 found.append(place)
         return found
 
+    def beside(self):
+        """A model of its own that is alike but for the story."""
+        other = Model()
+        other.purse, other.standing, other.day = dict(self.purse), dict(self.standing), self.day
+        other.bills = [{**bill, "row": list(bill["row"])} for bill in self.bills]
+        return other
+
+    def ends(self, number):
+        """All who hold the bill, or have paid at place 0, behind any way of asking."""
+        bill, found = self.bill(number), set()
+        for place in self.open_places(number):
+            if self.can_pay(bill["row"][place][0], bill["paper"][3]):
+                after = self.beside()
+                after.do_ask(number, bill["copy"], place)
+                found |= after.ends(number)
+        return found or {bill["holder"]}
+
+    def bearer(self, number):
+        self.came_back(self.bill(number))
+        name, = self.ends(number)
+        return name
+
     def do_ask(self, number, copy, place):
         bill = self.bill(number, copy)
         self.came_back(bill)

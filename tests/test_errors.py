@@ -31,6 +31,14 @@ class ErrorsTest(unittest.TestCase):
                 self.assertEqual(getattr(errors, name).__name__, name)
                 self.assertEqual(getattr(errors, name).__module__, "allonge.errors")
 
+    def test_each_has_the_name_of_its_class_as_its_word(self):
+        for name in NAMES:
+            with self.subTest(name=name):
+                self.assertEqual(getattr(errors, name)(1).word, name)
+
+    def test_what_it_is_made_with_is_its_message(self):
+        self.assertEqual(str(errors.NoHouse("zora")), "zora")
+
     def test_bad_line_has_its_line_as_a_field(self):
         for at in (1, 2, 400):
             with self.assertRaises(errors.HallError) as caught:

@@ -5,55 +5,7 @@ import unittest
 from allonge.errors import NoHouse
 from allonge.hall import Hall
 from halls import METHODS, HallCase, told
-
-# All seventeen words; what each deed tells stands behind it.
-DEEDS = [
-    (("house", "anna", 100), None),
-    (("house", "bert", 50), None),
-    (("house", "carl", 0), None),
-    (("house", "dora", 20), None),
-    (("in", "carl", 30), None),
-    (("out", "bert", 5), None),
-    (("draw", "bert", "anna", "carl", 10, 2, True), 1),
-    (("draw", "bert", "anna", "carl", 20, 2, False), 2),
-    (("draw", "carl", "dora", "bert", 5, 2, True), 3),
-    (("draw", "carl", "dora", "bert", 6, 2, True), 4),
-    (("accept", 1, 1), None),
-    (("accept", 2, 1), None),
-    (("accept", 4, 1), None),
-    (("sign", 1, 1, "dora", True), None),
-    (("blank", 2, 1, "dora", False), None),
-    (("hand", 2, 1, "bert"), None),
-    (("lose", 2), 2),
-    (("days", 2), None),
-    (("present", 1, 1), True),
-    (("fail", "anna"), None),
-    (("present", 2, 2), False),
-    (("present", 3, 1), False),
-    (("mend", "anna"), None),
-    (("protest", 2, 2), None),
-    (("protest", 3, 1), None),
-    (("honour", 2, 2, "dora", 0), None),
-    (("ask", 3, 1, 1), "carl"),
-    (("ask", 2, 2, 0), "anna"),
-    (("fair", ("dora", "bert")), [4]),
-    (("fair", ()), []),
-]
-
-
-def do(hall, deed):
-    word, *parts = deed
-    if word == "fair":
-        parts = [list(parts[0])]
-    return getattr(hall, METHODS[word])(*parts)
-
-
-def hall_behind(many):
-    """A hall in which the first of the deeds were done."""
-    hall = Hall()
-    for deed, tells in DEEDS[:many]:
-        do(hall, deed)
-    return hall
+from stories import DEEDS, do, hall_behind
 
 
 class StoryTest(HallCase):
